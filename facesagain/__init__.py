@@ -1,0 +1,1 @@
+"""Facesagain: what numbers of unlike visitors tell about who came again."""

@@ -1,0 +1,117 @@
+"""The general rules of point 2, for every function."""
+
+import copy
+import unittest
+
+from facesagain import gaps, sheets
+from tests.samples import HUGE, PAPER
+
+FAMILY = [((0,), 1), ((0, 1), 2), ((1, 2), 1), ((2,), 1)]
+NO_FAMILY_HAS = [[1], [0, 0], [3, 1, HUGE]]
+
+# Each call by the names of its arguments, in the order of the signature.
+CALLS = [
+    (sheets.sheet_of, {"family": FAMILY, "count": 4, "width": 3}),
+    (sheets.sheet_of, {"family": [], "count": 3, "width": 3}),
+    (sheets.days_in, {"sheet": PAPER}),
+    (sheets.width_in, {"sheet": PAPER}),
+    (sheets.visits_of, {"sheet": PAPER, "day": 2}),
+    (sheets.unlike_of, {"sheet": PAPER, "first": 1, "last": 2}),
+    (sheets.narrowed_sheet, {"sheet": PAPER, "width": 1}),
+    (sheets.narrowed_sheet, {"sheet": PAPER, "width": 2}),
+    (sheets.narrowed_sheet, {"sheet": NO_FAMILY_HAS, "width": 3}),
+    (gaps.gap_of, {"sheet": NO_FAMILY_HAS, "first": 0, "second": 2}),
+    (gaps.away_of, {"sheet": PAPER, "day": 1}),
+    (gaps.fresh_of, {"sheet": PAPER, "day": 1}),
+    (gaps.all_gaps, {"sheet": PAPER}),
+    (gaps.all_gaps, {"sheet": NO_FAMILY_HAS}),
+    (gaps.conflict_of, {"sheet": PAPER}),
+    (gaps.conflict_of, {"sheet": NO_FAMILY_HAS}),
+    (gaps.shows_conflict, {"sheet": NO_FAMILY_HAS, "thing": ("away", 0, 1)}),
+    (gaps.shows_conflict, {"sheet": NO_FAMILY_HAS, "thing": [["gap", 0, 1]]}),
+]
+
+
+def lists_in(thing):
+    """All lists in an object, itself included."""
+    found = [thing] if isinstance(thing, list) else []
+    if isinstance(thing, (list, tuple)):
+        for part in thing:
+            found += lists_in(part)
+    return found
+
+
+def spoil(thing):
+    """Change each list in an object."""
+    for found in lists_in(thing):
+        found.append(None)
+        found.reverse()
+
+
+class RulesTest(unittest.TestCase):
+    def test_by_position_and_by_name(self):
+        for call, told in CALLS:
+            expected = call(*told.values())
+            self.assertEqual(call(**told), expected)
+            self.assertEqual(call(**dict(reversed(list(told.items())))), expected)
+            first, *rest = told.items()
+            self.assertEqual(call(first[1], **dict(rest)), expected)
+
+    def test_equal_calls_give_equal_results(self):
+        for call, told in CALLS:
+            expected = call(**told)
+            for _ in range(3):
+                answer = call(**copy.deepcopy(told))
+                self.assertEqual(answer, expected)
+                self.assertIs(type(answer), type(expected))
+
+    def test_what_is_passed_is_not_changed(self):
+        for call, told in CALLS:
+            before = copy.deepcopy(told)
+            call(**told)
+            self.assertEqual(told, before)
+
+    def test_returned_lists_are_new(self):
+        seen = []
+        for call, told in CALLS:
+            for _ in range(2):
+                seen += lists_in(list(told.values()))
+                answer = call(**told)
+                for found in lists_in(answer):
+                    self.assertFalse(any(found is other for other in seen), call.__name__)
+                    seen.append(found)
+
+    def test_rows_that_are_one_object_become_unlike_ones(self):
+        row = [0]
+        answer = sheets.narrowed_sheet([row, row, row], 1)
+        self.assertEqual(answer, [[0], [0], [0]])
+        self.assertEqual(len({id(found) for found in lists_in(answer) + [row]}), 5)
+
+    def test_results_stay_when_arguments_change_later(self):
+        for call, told in CALLS:
+            mine = copy.deepcopy(told)
+            answer = call(**mine)
+            expected = copy.deepcopy(answer)
+            spoil(list(mine.values()))
+            self.assertEqual(answer, expected)
+
+    def test_later_calls_stay_when_results_change(self):
+        for call, told in CALLS:
+            expected = copy.deepcopy(call(**told))
+            before = copy.deepcopy(told)
+            spoil(call(**told))
+            self.assertEqual(told, before)
+            self.assertEqual(call(**told), expected)
+
+    def test_returned_values_may_be_passed_back(self):
+        family = [((0,), HUGE), ((0, 1), HUGE), ((1,), HUGE)]
+        sheet = sheets.sheet_of(family, 2, 2)
+        self.assertGreater(sheet[1][1], HUGE)
+        self.assertEqual(sheets.narrowed_sheet(sheet, 2), sheet)
+        self.assertEqual(gaps.all_gaps(sheet), [(0, 1, HUGE)])
+        self.assertTrue(gaps.shows_conflict(NO_FAMILY_HAS, gaps.conflict_of(NO_FAMILY_HAS)))
+        self.assertFalse(gaps.shows_conflict(sheet, gaps.conflict_of(sheet)))
+
+
+if __name__ == "__main__":
+    unittest.main()
