@@ -95,10 +95,17 @@ def check_day(sheet, day):
         raise InvalidDay(f"the days are 0 to {len(sheet) - 1}")
 
 
-def check_told(sheet, first, last, least):
-    """Raise InvalidDay unless both days are there, and least or more, but less than the width, apart."""
+def check_apart(sheet, first, last, least):
+    """Raise InvalidDay unless both days are there, and the last one least or more days behind the first."""
     check_day(sheet, first)
     check_day(sheet, last)
+    if last - first < least:
+        raise InvalidDay(f"the last day must be {least} or more days behind the first")
+
+
+def check_told(sheet, first, last, least):
+    """Raise InvalidDay unless both days are there, and least or more, but less than the width, apart."""
+    check_apart(sheet, first, last, least)
     width = len(sheet[-1])
-    if not least <= last - first < width:
-        raise InvalidDay(f"the last day must be {least} to {width - 1} days behind the first")
+    if last - first >= width:
+        raise InvalidDay(f"the last day must be less than {width} days behind the first")

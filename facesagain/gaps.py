@@ -1,6 +1,7 @@
 """Gaps: who came again when, who went away and who came fresh, and whether a sheet is possible."""
 
 from facesagain.checks import check_day, check_sheet, check_told, is_integer
+from facesagain.errors import Impossible
 from facesagain.sheets import told_number
 
 
@@ -80,6 +81,14 @@ def conflict_of(sheet):
     if len(conflicts) == 0:
         return None
     return conflicts[0]
+
+
+def check_possible(sheet):
+    """Raise Impossible with what conflict_of tells, if no family has what is known to be a sheet."""
+    conflicts = conflicts_in(sheet)
+    if len(conflicts) > 0:
+        word, first, second = conflicts[0]
+        raise Impossible(word, first, second)
 
 
 def conflicts_in(sheet):

@@ -1,8 +1,11 @@
 """Families, sheets and wrong things that several tests use, and counting by hand."""
 
+import functools
 import random
 
 from facesagain.errors import FaceError, Impossible, InvalidText
+from facesagain.gaps import away_of, conflict_of, fresh_of
+from facesagain.sheets import sheet_of
 
 HUGE = 10 ** 30 - 1
 
@@ -59,6 +62,7 @@ def possible_sheets():
             yield sheet_by_hand(family, count, width), family, count, width
 
 
+@functools.cache
 def any_sheets():
     """Sheets that mostly no family has, and a few that one has."""
     rng = random.Random(7)
@@ -124,3 +128,110 @@ def many_groups(groups):
     """A valid family of so many tuples but for their number: patterns of days 0 to 10."""
     patterns = sorted(tuple(day for day in range(11) if bits >> day & 1) for bits in range(1, groups + 1))
     return [(pattern, 1 + at % 3) for at, pattern in enumerate(patterns)]
+
+
+def is_plain_family(thing, count):
+    """Whether a thing is a family with days below count, told apart from the program."""
+    if not isinstance(thing, list) or len(thing) > 2000:
+        return False
+    for group in thing:
+        if not isinstance(group, tuple) or [isinstance(part, tuple) for part in group] != [True, False]:
+            return False
+        pattern, many = group
+        if not all(isinstance(x, int) and not isinstance(x, bool) for x in pattern + (many,)):
+            return False
+        if many < 1 or not pattern or list(pattern) != [day for day in range(count) if day in pattern]:
+            return False
+    patterns = [pattern for pattern, _ in thing]
+    return patterns == sorted(set(patterns))
+
+
+def all_families(sheet):
+    """All families that have a sheet, by trying every number for every pattern."""
+    count = len(sheet)
+    patterns = sorted(tuple(day for day in range(count) if bits >> day & 1) for bits in range(1, 2 ** count))
+    rest = {(day - k, day): number for day, row in enumerate(sheet) for k, number in enumerate(row)}
+    touched = {pattern: [told for told in rest if unlike([(pattern, 1)], *told)] for pattern in patterns}
+    found = []
+
+    def choose(at, chosen):
+        if at == len(patterns):
+            if not any(rest.values()):
+                found.append(list(chosen))
+            return
+        # No pattern from here on has a day ahead of the first one of this pattern.
+        if any(rest[day, day] for day in range(patterns[at][0])):
+            return
+        for many in range(min(rest[told] for told in touched[patterns[at]]) + 1):
+            for told in touched[patterns[at]]:
+                rest[told] -= many
+            choose(at + 1, chosen + [(patterns[at], many)] if many else chosen)
+            for told in touched[patterns[at]]:
+                rest[told] += many
+
+    choose(0, [])
+    return found
+
+
+@functools.cache
+def small_cases():
+    """Tuples (sheet, all its families) of two to four days and of each width."""
+    rng = random.Random(3)
+    drawn = [([((0,), 2), ((1,), 1), ((2,), 1)], 3), ([((0, 2), 2), ((1, 3), 1), ((3,), 1)], 4)]
+    drawn += [([((0,), 2), ((3,), 2)], 4), ([((0,), 1), ((1,), 1), ((2,), 1), ((3,), 2)], 4), ([], 2)]
+    for count, times in ((2, 12), (3, 25), (4, 25)):
+        drawn += [(random_family(rng, count, rng.randint(1, 5), 2), count) for _ in range(times)]
+    sheets = {
+        repr(sheet): sheet for family, count in drawn if sum(len(pattern) * many for pattern, many in family) <= 9
+        for sheet in [sheet_by_hand(family, count, width) for width in range(1, count + 1)]
+    }
+    return [(sheet, all_families(sheet)) for sheet in sheets.values()]
+
+
+@functools.cache
+def large_cases():
+    """Possible sheets of up to 30 days that have many joins, great numbers among them."""
+    rng = random.Random(11)
+    found = []
+    for count in (5, 9, 14, 30):
+        for groups, most in ((6, 4), (30, 50), (80, HUGE)):
+            family = random_family(rng, count, groups, most)
+            for width in sorted({1, 2, min(7, count - 1), count // 2, count - 1, count}):
+                found.append(sheet_of(family, count, width))
+    return found
+
+
+def joins_in(family, width):
+    """The dict of the pairs of days, width or more apart, of which visitors have the second as their next day."""
+    found = {}
+    for pattern, many in family:
+        for pair in zip(pattern, pattern[1:]):
+            if pair[1] - pair[0] >= width:
+                found[pair] = found.get(pair, 0) + many
+    return found
+
+
+def draw_joins(rng, sheet, share):
+    """Joins that the sheet lets, each pair of days taken with about so great a share of what is left."""
+    count, width = len(sheet), len(sheet[-1])
+    away = [away_of(sheet, day) for day in range(count)]
+    fresh = [fresh_of(sheet, day) for day in range(count)]
+    pairs = [(first, second) for first in range(count) for second in range(first + width, count)]
+    rng.shuffle(pairs)
+    joins = []
+    for first, second in pairs:
+        number = min(away[first], fresh[second])
+        if share < 1:
+            number = rng.randint(0, number) if rng.random() < share else 0
+        if number > 0:
+            joins.append((first, second, number))
+            away[first] -= number
+            fresh[second] -= number
+    return sorted(joins)
+
+
+@functools.cache
+def impossible_sheets():
+    """Sheets that no family has: small ones, and of up to 30 days."""
+    found = [[[1], [1, 3]], [[4], [4, 1]], [[5], [1, 2]], [[0], [0, 0], [0, 0, 1]]]
+    return found + [sheet for sheet in any_sheets() if conflict_of(sheet) is not None]

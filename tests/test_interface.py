@@ -5,7 +5,7 @@ import inspect
 import pathlib
 import unittest
 
-from facesagain import errors, gaps, sheets
+from facesagain import ends, errors, families, gaps, longer, sheets
 
 PACKAGE = pathlib.Path(errors.__file__).parent
 
@@ -18,6 +18,18 @@ FUNCTIONS = {
     gaps: {
         "gap_of": ["sheet", "first", "second"], "away_of": ["sheet", "day"], "fresh_of": ["sheet", "day"],
         "all_gaps": ["sheet"], "conflict_of": ["sheet"], "shows_conflict": ["sheet", "thing"],
+    },
+    families: {
+        "is_family": ["thing", "count"], "has_sheet": ["sheet", "thing"], "some_family": ["sheet"],
+        "joined_family": ["sheet", "joins"],
+    },
+    longer: {
+        "longer_range": ["sheet", "first", "last"], "longer_paper": ["sheet", "first", "last"],
+        "longer_family": ["sheet", "first", "last", "number"],
+    },
+    ends: {
+        "new_range": ["sheet", "day"], "again_range": ["sheet", "day"], "gone_range": ["sheet", "day"],
+        "next_range": ["sheet", "first", "second"], "all_range": ["sheet"],
     },
 }
 

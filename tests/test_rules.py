@@ -3,11 +3,13 @@
 import copy
 import unittest
 
-from facesagain import gaps, sheets
+from facesagain import ends, families, gaps, longer, sheets
 from tests.samples import HUGE, PAPER
 
 FAMILY = [((0,), 1), ((0, 1), 2), ((1, 2), 1), ((2,), 1)]
 NO_FAMILY_HAS = [[1], [0, 0], [3, 1, HUGE]]
+# Visitors of single days alone, so that each day two or more days ahead can be joined to each one behind it.
+APART = [[5], [3, 8], [4, 7], [HUGE, HUGE + 4]]
 
 # Each call by the names of its arguments, in the order of the signature.
 CALLS = [
@@ -29,6 +31,26 @@ CALLS = [
     (gaps.conflict_of, {"sheet": NO_FAMILY_HAS}),
     (gaps.shows_conflict, {"sheet": NO_FAMILY_HAS, "thing": ("away", 0, 1)}),
     (gaps.shows_conflict, {"sheet": NO_FAMILY_HAS, "thing": [["gap", 0, 1]]}),
+    (families.is_family, {"thing": FAMILY, "count": 4}),
+    (families.is_family, {"thing": [[FAMILY]], "count": 4}),
+    (families.has_sheet, {"sheet": PAPER, "thing": FAMILY}),
+    (families.has_sheet, {"sheet": NO_FAMILY_HAS, "thing": [[FAMILY]]}),
+    (families.some_family, {"sheet": PAPER}),
+    (families.some_family, {"sheet": APART}),
+    (families.some_family, {"sheet": [[0], [0, 0]]}),
+    (families.joined_family, {"sheet": PAPER, "joins": []}),
+    (families.joined_family, {"sheet": APART, "joins": [(0, 2, 1), (0, 3, 2), (1, 3, 1)]}),
+    (longer.longer_range, {"sheet": APART, "first": 0, "last": 3}),
+    (longer.longer_range, {"sheet": APART, "first": 2, "last": 3}),
+    (longer.longer_paper, {"sheet": APART, "first": 1, "last": 3}),
+    (longer.longer_family, {"sheet": APART, "first": 0, "last": 3, "number": HUGE + 12}),
+    (longer.longer_family, {"sheet": APART, "first": 1, "last": 2, "number": 7}),
+    (ends.new_range, {"sheet": APART, "day": 3}),
+    (ends.again_range, {"sheet": APART, "day": 3}),
+    (ends.gone_range, {"sheet": APART, "day": 1}),
+    (ends.next_range, {"sheet": APART, "first": 0, "second": 3}),
+    (ends.next_range, {"sheet": APART, "first": 0, "second": 1}),
+    (ends.all_range, {"sheet": APART}),
 ]
 
 
@@ -111,6 +133,11 @@ class RulesTest(unittest.TestCase):
         self.assertEqual(gaps.all_gaps(sheet), [(0, 1, HUGE)])
         self.assertTrue(gaps.shows_conflict(NO_FAMILY_HAS, gaps.conflict_of(NO_FAMILY_HAS)))
         self.assertFalse(gaps.shows_conflict(sheet, gaps.conflict_of(sheet)))
+        self.assertEqual(families.some_family(sheet), family)
+        least, greatest = longer.longer_range(APART, 0, 3)
+        self.assertGreater(least, HUGE)
+        for number in (least, greatest):
+            self.assertTrue(families.has_sheet(APART, longer.longer_family(APART, 0, 3, number)))
 
 
 if __name__ == "__main__":

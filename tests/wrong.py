@@ -2,7 +2,8 @@
 
 import unittest
 
-from facesagain.errors import InvalidSheet
+from facesagain.errors import Impossible, InvalidSheet
+from facesagain.gaps import conflict_of
 from tests.samples import wrong_sheets
 
 
@@ -19,3 +20,8 @@ class WrongCalls(unittest.TestCase):
     def check_wrong_sheets(self, call, *rest):
         for sheet in wrong_sheets():
             self.check_error(InvalidSheet, call, sheet, *rest)
+
+    def check_impossible(self, sheet, call, *told):
+        """The call raises Impossible with what conflict_of tells."""
+        error = self.check_error(Impossible, call, *told)
+        self.assertEqual((error.word, error.first, error.second), conflict_of(sheet))
