@@ -1,6 +1,6 @@
 """Checks of arguments that several files share."""
 
-from facesagain.errors import InvalidCount, InvalidDay, InvalidFamily, InvalidSheet, InvalidWidth
+from facesagain.errors import InvalidCount, InvalidDay, InvalidFamily, InvalidPattern, InvalidSheet, InvalidWidth
 
 MOST_DAYS = 30
 MOST_GROUPS = 2000
@@ -77,6 +77,12 @@ def check_family(family, count):
         raise InvalidFamily(f"a family is an ascending list of (pattern, many), here with days below {count}")
 
 
+def check_pattern(sheet, pattern):
+    """Raise InvalidPattern for what is no pattern of days that the sheet has."""
+    if not is_pattern(pattern, len(sheet)):
+        raise InvalidPattern(f"a pattern is an ascending tuple of one or more days, here 0 to {len(sheet) - 1}")
+
+
 def check_count(count):
     """Raise InvalidCount for what is no number of days."""
     if not is_between(count, 1, MOST_DAYS):
@@ -92,7 +98,7 @@ def check_width(width, most):
 def check_day(sheet, day):
     """Raise InvalidDay for a day that the sheet does not have."""
     if not is_between(day, 0, len(sheet) - 1):
-        raise InvalidDay(f"the days are 0 to {len(sheet) - 1}")
+        raise InvalidDay(f"there are {len(sheet)} days, counted from 0")
 
 
 def check_apart(sheet, first, last, least):

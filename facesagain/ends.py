@@ -11,7 +11,7 @@ def new_range(sheet, day):
     check_sheet(sheet)
     check_day(sheet, day)
     check_possible(sheet)
-    return _new_on(sheet, day)
+    return new_on(sheet, day)
 
 
 def again_range(sheet, day):
@@ -19,12 +19,12 @@ def again_range(sheet, day):
     check_sheet(sheet)
     check_day(sheet, day)
     check_possible(sheet)
-    least, greatest = _new_on(sheet, day)
+    least, greatest = new_on(sheet, day)
     visits = told_number(sheet, day, day)
     return (visits - greatest, visits - least)
 
 
-def _new_on(sheet, day):
+def new_on(sheet, day):
     """The tuple (least, greatest) of new visitors on a day of a sheet that is known to be possible."""
     fresh = fresh_on(sheet, day)
     joinable = sum([away_from(sheet, earlier) for earlier in range(day - len(sheet[-1]) + 1)])
@@ -36,6 +36,11 @@ def gone_range(sheet, day):
     check_sheet(sheet)
     check_day(sheet, day)
     check_possible(sheet)
+    return gone_from(sheet, day)
+
+
+def gone_from(sheet, day):
+    """The tuple (least, greatest) of the visitors who go for good, of a sheet that is known to be possible."""
     away = away_from(sheet, day)
     joinable = sum([fresh_on(sheet, later) for later in range(day + len(sheet[-1]), len(sheet))])
     return (max(0, away - joinable), away)

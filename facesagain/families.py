@@ -23,7 +23,7 @@ def some_family(sheet):
     """A family that has the sheet, in which nobody who is away comes again."""
     check_sheet(sheet)
     check_possible(sheet)
-    return routed_family(sheet, [])
+    return family_with_joins(sheet, [])
 
 
 def joined_family(sheet, joins):
@@ -32,7 +32,7 @@ def joined_family(sheet, joins):
     _check_joins(sheet, joins)
     check_possible(sheet)
     _check_sums(sheet, joins)
-    return routed_family(sheet, joins)
+    return family_with_joins(sheet, joins)
 
 
 def _check_joins(sheet, joins):
@@ -74,21 +74,53 @@ def _check_sums(sheet, joins):
             raise InvalidJoins(f"not so many visitors of day {day} are fresh on it")
 
 
-def routed_family(sheet, joins):
+def joins_among(away, fresh, width, total):
+    """Joins of so many visitors together, or of as many as away and fresh let: dicts of numbers by day."""
+    left = dict(away)
+    joins = []
+    # Who can be joined to a day can be joined to each later one too, so that no choice here is a wrong one.
+    for second in sorted(fresh):
+        room = min(fresh[second], total)
+        for first in sorted(away):
+            number = min(left[first], room)
+            if number > 0 and first + width <= second:
+                joins.append((first, second, number))
+                left[first] -= number
+                room -= number
+                total -= number
+    return joins
+
+
+def family_with_joins(sheet, joins):
     """A family with just these joins, for a sheet that is known to be possible and joins that it lets."""
+    return routed_family(ways_in(sheet, joins), lambda pattern: False)
+
+
+def ways_in(sheet, joins):
+    """For each day its ways (second, number): how many come next on which day, last those who do not, for None."""
     links = gaps_in(sheet) + joins
-    arriving = [[] for _ in sheet]
-    family = []
+    ways = []
     for day, row in enumerate(sheet):
-        ways = [(second, number) for first, second, number in links if first == day]
-        gone = row[0] - sum([number for _, number in ways])
-        new = row[0] - sum([number for _, second, number in links if second == day])
-        dealt = _dealt(arriving[day] + [((), new)], ways + [(None, gone)])
+        own = [(second, number) for first, second, number in links if first == day]
+        ways.append(own + [(None, row[0] - sum([number for _, number in own]))])
+    return ways
+
+
+def routed_family(ways, goes_first):
+    """A family whose visitors go these ways; on each day the first ways are for patterns so far that go first."""
+    arriving = [[] for _ in ways]
+    family = []
+    for day, own in enumerate(ways):
+        new = sum([number for _, number in own]) - sum([many for _, many in arriving[day]])
+        groups = [(pattern + (day,), many) for pattern, many in arriving[day] + [((), new)]]
+        others = [group for group in groups if not goes_first(group[0])]
+        # The groups are dealt out from the end of their list on.
+        dealt = _dealt(others + [group for group in groups if goes_first(group[0])], own)
         for pattern, second, many in dealt:
             if second is None:
-                family.append((pattern + (day,), many))
+                family.append((pattern, many))
             else:
-                arriving[second].append((pattern + (day,), many))
+                arriving[second].append((pattern, many))
     return sorted(family)
 
 

@@ -63,15 +63,24 @@ def all_gaps(sheet):
 
 def gaps_in(sheet):
     """The gaps other than 0 of what is known to be a sheet."""
+    gaps = [(first, second, gap_between(sheet, first, second)) for first, second in _told_pairs(sheet)]
+    return [gap for gap in gaps if gap[2] != 0]
+
+
+def _told_pairs(sheet):
+    """The ascending list of the tuples (first, second) of unlike days that stand in one told stretch."""
     days = len(sheet)
     width = len(sheet[-1])
-    found = []
-    for first in range(days):
-        for second in range(first + 1, min(first + width, days)):
-            gap = gap_between(sheet, first, second)
-            if gap != 0:
-                found.append((first, second, gap))
-    return found
+    return [(first, second) for first in range(days) for second in range(first + 1, min(first + width, days))]
+
+
+def numbers_in(sheet):
+    """The dict of all tuples (word, first, second) of what is known to be a sheet with their numbers."""
+    numbers = {("gap", first, second): gap_between(sheet, first, second) for first, second in _told_pairs(sheet)}
+    for day in range(len(sheet)):
+        numbers[("away", day, end_of_away(sheet, day))] = away_from(sheet, day)
+        numbers[("fresh", start_of_fresh(sheet, day), day)] = fresh_on(sheet, day)
+    return numbers
 
 
 def conflict_of(sheet):
@@ -93,12 +102,8 @@ def check_possible(sheet):
 
 def conflicts_in(sheet):
     """All tuples (word, first, second) with a number below 0, sorted by last, then second, then first item."""
-    found = [(second, first, "gap") for first, second, gap in gaps_in(sheet) if gap < 0]
-    for day in range(len(sheet)):
-        if away_from(sheet, day) < 0:
-            found.append((end_of_away(sheet, day), day, "away"))
-        if fresh_on(sheet, day) < 0:
-            found.append((day, start_of_fresh(sheet, day), "fresh"))
+    numbers = numbers_in(sheet)
+    found = [(second, first, word) for (word, first, second), number in numbers.items() if number < 0]
     return [(word, first, second) for second, first, word in sorted(found)]
 
 

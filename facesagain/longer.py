@@ -2,7 +2,7 @@
 
 from facesagain.checks import check_apart, check_sheet, is_between
 from facesagain.errors import InvalidNumber
-from facesagain.families import routed_family
+from facesagain.families import family_with_joins, joins_among
 from facesagain.gaps import away_from, check_possible, fresh_on
 from facesagain.sheets import told_number
 
@@ -32,7 +32,7 @@ def longer_family(sheet, first, last, number):
     least, greatest = range_within(sheet, first, last)
     if not is_between(number, least, greatest):
         raise InvalidNumber(f"there were {least} to {greatest} unlike visitors")
-    return routed_family(sheet, _joins_within(sheet, first, last, greatest - number))
+    return family_with_joins(sheet, _joins_within(sheet, first, last, greatest - number))
 
 
 def range_within(sheet, first, last):
@@ -63,16 +63,5 @@ def _joins_within(sheet, first, last, total):
     """Joins of days of a stretch of so many visitors together; none for a told stretch."""
     width = len(sheet[-1])
     away = {day: away_from(sheet, day) for day in range(first, last - width + 1)}
-    left = total
-    joins = []
-    # Who can be joined to a day can be joined to each later one too, so that no choice here is a wrong one.
-    for second in range(first + width, last + 1):
-        fresh = fresh_on(sheet, second)
-        for day in range(first, second - width + 1):
-            number = min(away[day], fresh, left)
-            if number > 0:
-                joins.append((day, second, number))
-                away[day] -= number
-                fresh -= number
-                left -= number
-    return joins
+    fresh = {day: fresh_on(sheet, day) for day in range(first + width, last + 1)}
+    return joins_among(away, fresh, width, total)

@@ -181,6 +181,11 @@ def small_cases():
     drawn += [([((0,), 2), ((3,), 2)], 4), ([((0,), 1), ((1,), 1), ((2,), 1), ((3,), 2)], 4), ([], 2)]
     for count, times in ((2, 12), (3, 25), (4, 25)):
         drawn += [(random_family(rng, count, rng.randint(1, 5), 2), count) for _ in range(times)]
+    # All come on day 1 and can change their ways there, so that full sheets leave something open, too.
+    drawn += [([((0, 1, 2), 2), ((1,), 2)], 3), ([((0, 1, 2), 2), ((1,), 1), ((1, 2), 1)], 3)]
+    drawn += [([((0, 1, 3), 2), ((1,), 1), ((1, 2), 1)], 4), ([((0, 1), 1), ((1,), 1), ((1, 2, 3), 2)], 4)]
+    drawn += [([((0, 1), 2), ((1, 3), 2)], 4), ([((0, 1), 1), ((1, 2), 3)], 4)]
+    drawn += [([((0, 1), 1), ((0, 1, 3), 1), ((1, 3), 1)], 4), ([((0, 1, 2, 3), 1), ((1,), 1), ((1, 2), 1), ((1, 3), 1)], 4)]
     sheets = {
         repr(sheet): sheet for family, count in drawn if sum(len(pattern) * many for pattern, many in family) <= 9
         for sheet in [sheet_by_hand(family, count, width) for width in range(1, count + 1)]

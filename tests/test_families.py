@@ -173,13 +173,6 @@ class HasSheetTest(WrongCalls):
 
 
 class FamilyTest(WrongCalls):
-    def check_family(self, sheet, family):
-        """It is a family by the words of point 3 that has the sheet."""
-        count, width = len(sheet), len(sheet[-1])
-        self.assertTrue(is_plain_family(family, count))
-        counted = sheet_by_hand if count <= 9 else sheet_of
-        self.assertEqual(counted(family, count, width), sheet)
-
     def check_joins(self, sheet, joins):
         family = joined_family(sheet, joins)
         self.check_family(sheet, family)

@@ -5,7 +5,7 @@ import inspect
 import pathlib
 import unittest
 
-from facesagain import ends, errors, families, gaps, longer, sheets
+from facesagain import both, ends, errors, families, gaps, longer, patterns, sheets, stretches
 
 PACKAGE = pathlib.Path(errors.__file__).parent
 
@@ -30,6 +30,16 @@ FUNCTIONS = {
     ends: {
         "new_range": ["sheet", "day"], "again_range": ["sheet", "day"], "gone_range": ["sheet", "day"],
         "next_range": ["sheet", "first", "second"], "all_range": ["sheet"],
+    },
+    stretches: {
+        "common_of": ["sheet", "first", "last", "second", "end"], "came_again": ["sheet", "day"],
+    },
+    patterns: {
+        "pattern_range": ["sheet", "pattern"], "family_with": ["sheet", "pattern", "number"],
+        "once_range": ["sheet"], "daily_range": ["sheet"],
+    },
+    both: {
+        "both_range": ["sheet", "first", "second"], "both_family": ["sheet", "first", "second", "number"],
     },
 }
 

@@ -2,8 +2,8 @@
 
 import unittest
 
-from facesagain import ends, families, longer
-from facesagain.errors import InvalidDay, InvalidJoins, InvalidNumber, InvalidSheet
+from facesagain import both, ends, families, longer, patterns, stretches
+from facesagain.errors import InvalidDay, InvalidJoins, InvalidNumber, InvalidPattern, InvalidSheet, NotFull
 from facesagain.gaps import conflict_of
 from tests.samples import HUGE, impossible_sheets, sheet_by_hand
 from tests.wrong import WrongCalls
@@ -16,6 +16,9 @@ WRONG_DAYS = [-1, 4, 5, -HUGE, HUGE]
 WRONG_PAIRS = [(-1, 2), (0, 4), (4, 0), (4, 4), (-1, -1), (-1, 4), (2, 1), (3, 0), (-HUGE, HUGE), (HUGE, -HUGE)]
 WRONG_JOINS = [None, (), {}, [None], [(0, 2)], [(0, 1, 1)], [(0, 4, 1)], [(-1, 2, 1)], [(0, 2, 0)], [(0, 2, True)],
                [(1, 3, 1), (0, 2, 1)], [(0, 2, 1), (0, 2, 1)], [(0, 2, HUGE), (0, 2, 1)], [[0, 2, HUGE]]]
+WRONG_STRETCHES = [(1, 0, 0, 0), (0, 0, 2, 2), (0, 1, 0, 0), (0, 1, 1, 2), (0, 0, 1, 0), (-1, 0, 0, 0), (3, 3, 3, 4),
+                   (4, 4, 4, 4), (0, HUGE, 0, HUGE), (-HUGE, 0, 0, 0), (0, 0, 0, 4), (0, 0, -1, 0), (0, 2, 0, 2)]
+WRONG_PATTERNS = [None, (), [0], (4,), (-1,), (0, 4), (0, 0), (1, 0), (True,), (0, "1"), 0, "0", (HUGE,), (0, None)]
 
 # Each function with arguments behind the sheet that are right, that are wrong of themselves with their error, and
 # that only a possible sheet shows to be wrong, with that error.
@@ -41,6 +44,27 @@ CALLS = [
     (ends.gone_range, [(0,), (3,)], [(day,) for day in WRONG_DAYS], InvalidDay, [], None),
     (ends.next_range, [(0, 1), (0, 3), (2, 3)], WRONG_PAIRS + [(0, 0), (3, 3)], InvalidDay, [], None),
     (ends.all_range, [()], [], None, [], None),
+    (
+        stretches.common_of, [(0, 0, 0, 0), (0, 0, 1, 1), (2, 3, 3, 3), (3, 3, 3, 3)], WRONG_STRETCHES, InvalidDay,
+        [], None,
+    ),
+    (stretches.came_again, [(0,), (3,)], [(day,) for day in WRONG_DAYS], InvalidDay, [], None),
+    (
+        patterns.pattern_range, [((0,),), ((3,),), ((0, 3),), ((0, 1, 2, 3),)],
+        [(pattern,) for pattern in WRONG_PATTERNS], InvalidPattern, [], None,
+    ),
+    (
+        patterns.family_with, [((0,), 2), ((0,), 0), ((0, 1), 1), ((0, 2), 2)],
+        [(pattern, number) for pattern in WRONG_PATTERNS for number in (-1, 0, HUGE)], InvalidPattern,
+        [((0,), -1), ((0,), 3), ((0, 1), 2), ((0, 2), 3), ((2, 3), 1), ((0,), HUGE), ((0,), -HUGE)], InvalidNumber,
+    ),
+    (patterns.daily_range, [()], [], None, [], None),
+    (both.both_range, [(0, 1), (0, 3), (2, 3)], WRONG_PAIRS + [(0, 0), (3, 3)], InvalidDay, [], None),
+    (
+        both.both_family, [(0, 1, 1), (0, 2, 0), (0, 2, 2)],
+        [pair + (number,) for pair in WRONG_PAIRS + [(0, 0), (3, 3)] for number in (-1, 0, 1, HUGE)], InvalidDay,
+        [(0, 1, 0), (0, 1, 2), (0, 2, -1), (0, 2, 3), (0, 2, HUGE), (0, 1, -HUGE)], InvalidNumber,
+    ),
 ]
 
 
@@ -85,14 +109,27 @@ class OrderTest(WrongCalls):
             self.check_impossible(sheet, longer.longer_range, sheet, 0, last)
             self.check_impossible(sheet, longer.longer_range, sheet, last, last)
             self.check_impossible(sheet, longer.longer_family, sheet, 0, last, 0)
+            self.check_impossible(sheet, stretches.common_of, sheet, last, last, last, last)
+            self.check_impossible(sheet, stretches.came_again, sheet, 0)
+            self.check_impossible(sheet, patterns.pattern_range, sheet, (last,))
+            self.check_impossible(sheet, patterns.family_with, sheet, (0,), 0)
+            self.check_impossible(sheet, patterns.daily_range, sheet)
             if last > 0:
                 self.check_impossible(sheet, ends.next_range, sheet, 0, last)
+                self.check_impossible(sheet, both.both_range, sheet, 0, last)
+                self.check_impossible(sheet, both.both_family, sheet, 0, last, 0)
             if last >= len(sheet[-1]):
                 self.check_impossible(sheet, longer.longer_paper, sheet, 0, last)
             else:
                 self.check_error(InvalidDay, longer.longer_paper, sheet, 0, last)
             words.add(conflict_of(sheet)[0])
         self.assertEqual(words, {"gap", "away", "fresh"})
+
+    def test_sheets_that_are_not_full_come_between_wrong_and_impossible_ones(self):
+        self.check_error(InvalidSheet, patterns.once_range, [[0], [0, 0], [0]])
+        self.check_error(NotFull, patterns.once_range, SHEET)
+        self.check_error(NotFull, patterns.once_range, NO_FAMILY_HAS)
+        self.check_impossible([[4], [4, 1]], patterns.once_range, [[4], [4, 1]])
 
 
 if __name__ == "__main__":

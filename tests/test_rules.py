@@ -3,7 +3,7 @@
 import copy
 import unittest
 
-from facesagain import ends, families, gaps, longer, sheets
+from facesagain import both, ends, families, gaps, longer, patterns, sheets, stretches
 from tests.samples import HUGE, PAPER
 
 FAMILY = [((0,), 1), ((0, 1), 2), ((1, 2), 1), ((2,), 1)]
@@ -51,6 +51,20 @@ CALLS = [
     (ends.next_range, {"sheet": APART, "first": 0, "second": 3}),
     (ends.next_range, {"sheet": APART, "first": 0, "second": 1}),
     (ends.all_range, {"sheet": APART}),
+    (stretches.common_of, {"sheet": APART, "first": 1, "last": 1, "second": 2, "end": 2}),
+    (stretches.common_of, {"sheet": APART, "first": 2, "last": 3, "second": 3, "end": 3}),
+    (stretches.came_again, {"sheet": APART, "day": 1}),
+    (stretches.came_again, {"sheet": APART, "day": 3}),
+    (patterns.pattern_range, {"sheet": APART, "pattern": (0, 3)}),
+    (patterns.family_with, {"sheet": APART, "pattern": (0, 3), "number": 0}),
+    (patterns.family_with, {"sheet": APART, "pattern": (0, 3), "number": 2}),
+    (patterns.family_with, {"sheet": [[0], [0, 0]], "pattern": (0, 1), "number": 0}),
+    (patterns.once_range, {"sheet": [[4], [5, 6]]}),
+    (patterns.daily_range, {"sheet": APART}),
+    (both.both_range, {"sheet": APART, "first": 0, "second": 3}),
+    (both.both_family, {"sheet": APART, "first": 0, "second": 3, "number": 0}),
+    (both.both_family, {"sheet": APART, "first": 0, "second": 3, "number": 2}),
+    (both.both_family, {"sheet": PAPER, "first": 0, "second": 2, "number": 1}),
 ]
 
 
@@ -138,6 +152,13 @@ class RulesTest(unittest.TestCase):
         self.assertGreater(least, HUGE)
         for number in (least, greatest):
             self.assertTrue(families.has_sheet(APART, longer.longer_family(APART, 0, 3, number)))
+        crowded = [[HUGE], [HUGE + 2, HUGE + 2], [4 * HUGE, 5 * HUGE, 5 * HUGE]]
+        least, greatest = patterns.pattern_range(crowded, (2,))
+        self.assertGreater(least, HUGE)
+        for number in (least, greatest):
+            self.assertTrue(families.has_sheet(crowded, patterns.family_with(crowded, (2,), number)))
+        number = both.both_range(crowded, 0, 1)[0]
+        self.assertTrue(families.has_sheet(crowded, both.both_family(crowded, 0, 1, number)))
 
 
 if __name__ == "__main__":

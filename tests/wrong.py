@@ -1,10 +1,11 @@
-"""What tests of wrong calls share."""
+"""What tests share: checks of errors, and of families."""
 
 import unittest
 
 from facesagain.errors import Impossible, InvalidSheet
 from facesagain.gaps import conflict_of
-from tests.samples import wrong_sheets
+from facesagain.sheets import sheet_of
+from tests.samples import is_plain_family, sheet_by_hand, wrong_sheets
 
 
 class WrongCalls(unittest.TestCase):
@@ -25,3 +26,10 @@ class WrongCalls(unittest.TestCase):
         """The call raises Impossible with what conflict_of tells."""
         error = self.check_error(Impossible, call, *told)
         self.assertEqual((error.word, error.first, error.second), conflict_of(sheet))
+
+    def check_family(self, sheet, family):
+        """It is a family by the words of point 3 that has the sheet."""
+        count, width = len(sheet), len(sheet[-1])
+        self.assertTrue(is_plain_family(family, count))
+        counted = sheet_by_hand if count <= 9 else sheet_of
+        self.assertEqual(counted(family, count, width), sheet)
