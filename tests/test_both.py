@@ -135,7 +135,8 @@ class RangeTest(BothTest):
             count = len(sheet)
             other = turned(sheet)
             for first, second in pairs(sheet)[::5] + [(0, count - 1)]:
-                self.assertEqual(both_range(sheet, first, second), both_range(other, count - 1 - second, count - 1 - first))
+                answer = both_range(other, count - 1 - second, count - 1 - first)
+                self.assertEqual(both_range(sheet, first, second), answer)
 
     def test_a_family_is_within(self):
         for sheet, family, count, _ in possible_sheets():

@@ -5,7 +5,9 @@ import inspect
 import pathlib
 import unittest
 
-from facesagain import both, ends, errors, families, gaps, longer, patterns, sheets, stretches
+from facesagain import (
+    both, ends, errors, families, gaps, live, longer, patterns, session, sheets, slips, stretches, texts,
+)
 
 PACKAGE = pathlib.Path(errors.__file__).parent
 
@@ -41,6 +43,20 @@ FUNCTIONS = {
     both: {
         "both_range": ["sheet", "first", "second"], "both_family": ["sheet", "first", "second", "number"],
     },
+    slips: {
+        "value_range": ["sheet", "day", "back"], "corrections": ["sheet"], "least_correction": ["sheet"],
+    },
+    texts: {
+        "write_sheet": ["sheet"], "read_sheet": ["text"], "write_family": ["family"], "read_family": ["text"],
+    },
+    session: {
+        "session": ["rows"],
+    },
+}
+
+METHODS = {
+    "__init__": ["width"], "add": ["row"], "undo": [], "mark": [], "undo_to": ["index"], "twin": [],
+    "month": ["first", "last"], "__len__": [],
 }
 
 LIBRARY = ("heapq", "math", "itertools", "collections")
@@ -54,6 +70,16 @@ class InterfaceTest(unittest.TestCase):
                     found = getattr(module, name)
                     self.assertEqual(found.__module__, module.__name__)
                     self.assertEqual(list(inspect.signature(found).parameters), arguments)
+
+    def test_methods_stand_in_the_class_itself(self):
+        self.assertEqual(live.Door.__module__, "facesagain.live")
+        self.assertEqual(live.Door.__bases__, (object,))
+        for name, arguments in METHODS.items():
+            found = vars(live.Door)[name]
+            self.assertEqual(list(inspect.signature(found).parameters)[1:], arguments)
+        for name in ("width", "sheet"):
+            self.assertIsInstance(vars(live.Door)[name], property)
+        self.assertNotIn("__eq__", vars(live.Door))
 
     def test_fields_of_errors(self):
         self.assertEqual(list(inspect.signature(errors.Impossible).parameters), ["word", "first", "second"])

@@ -3,7 +3,7 @@
 import copy
 import unittest
 
-from facesagain import both, ends, families, gaps, longer, patterns, sheets, stretches
+from facesagain import both, ends, families, gaps, longer, patterns, session, sheets, slips, stretches, texts
 from tests.samples import HUGE, PAPER
 
 FAMILY = [((0,), 1), ((0, 1), 2), ((1, 2), 1), ((2,), 1)]
@@ -65,6 +65,20 @@ CALLS = [
     (both.both_family, {"sheet": APART, "first": 0, "second": 3, "number": 0}),
     (both.both_family, {"sheet": APART, "first": 0, "second": 3, "number": 2}),
     (both.both_family, {"sheet": PAPER, "first": 0, "second": 2, "number": 1}),
+    (slips.value_range, {"sheet": APART, "day": 3, "back": 1}),
+    (slips.value_range, {"sheet": NO_FAMILY_HAS, "day": 0, "back": 0}),
+    (slips.corrections, {"sheet": APART}),
+    (slips.corrections, {"sheet": NO_FAMILY_HAS}),
+    (slips.least_correction, {"sheet": APART}),
+    (slips.least_correction, {"sheet": [[4], [1, 2]]}),
+    (texts.write_sheet, {"sheet": APART}),
+    (texts.read_sheet, {"text": "5 3,8 4,7"}),
+    (texts.read_sheet, {"text": "5 5 5"}),
+    (texts.write_family, {"family": FAMILY}),
+    (texts.write_family, {"family": []}),
+    (texts.read_family, {"text": "0:1 0.1:2"}),
+    (texts.read_family, {"text": "-"}),
+    (session.session, {"rows": "door 2\nadd 3\nadd 3,4\nall\n\nnew 9"}),
 ]
 
 

@@ -153,7 +153,8 @@ class CommonTest(WrongCalls):
     def test_wrong_days_come_ahead_of_impossible_sheets(self):
         for sheet in impossible_sheets():
             count, width = len(sheet), len(sheet[-1])
-            for told in ((1, 0, 0, 0), (0, 0, 2, 2), (0, 1, 0, 0), (0, 0, 0, count), (-1, 0, 0, 0), (0, width, 0, width)):
+            wrong = [(1, 0, 0, 0), (0, 0, 2, 2), (0, 1, 0, 0), (0, 0, 0, count), (-1, 0, 0, 0), (0, width, 0, width)]
+            for told in wrong:
                 self.check_error(InvalidDay, common_of, sheet, *told)
             self.check_impossible(sheet, common_of, sheet, 0, 0, 0, 0)
             self.check_impossible(sheet, common_of, sheet, 0, width - 1, width - 1, width - 1)
